@@ -1,0 +1,1 @@
+"""Unithouse: sorts of structures over names, and one rule that moves a mark."""
