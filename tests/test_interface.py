@@ -1,0 +1,68 @@
+"""The interface: each name is defined in the file under which the document lists it, with its parameters."""
+
+import importlib
+import inspect
+import pathlib
+import subprocess
+import sys
+import unittest
+
+PACKAGE = pathlib.Path(__file__).parent.parent / "unithouse"
+
+INTERFACE = {
+    "sorts": {
+        "need_many": "value", "need_pair": "many, one, other", "need_sort": "many, value", "is_sort": "many, value",
+        "is_single": "many, sort", "marks": "many, sort", "width": "many, sort", "how_many": "many, sort",
+        "parts": "many, sort", "part_at": "many, sort, path", "put_at": "many, sort, path, part",
+    },
+    "codes": {
+        "is_tree": "many, value", "is_rooted": "many, value", "tree_code": "many, tree", "coded_tree": "many, code",
+        "rooted_code": "many, rooted", "coded_rooted": "many, code",
+    },
+    "members": {
+        "is_member": "many, sort, value", "need_member": "many, sort, value", "content_of": "many, sort, member",
+        "is_content": "many, value", "need_content": "many, value",
+    },
+    "listing": {
+        "members": "many, sort", "page": "many, sort, *, start=0, count=10", "member_at": "many, sort, index",
+        "index_of": "many, sort, member",
+    },
+    "readings": {
+        "reading": "many, sort, member, name, other", "free_brackets": "many, sort, member, name, other",
+        "can_transfer": "many, sort, member, giver, taker", "transfer": "many, sort, member, giver, taker",
+        "transfers": "many, sort, member",
+    },
+    "strings": {
+        "string_place": "many, sort, member, name, other", "is_head": "many, sort, member, name, other",
+        "head_of": "many, sort, member, name, other", "string_members": "many, sort, member, name, other",
+        "string_at": "many, sort, member, name, other, place", "exchange": "many, sort, member, name, other",
+        "heads_listed": "many, sort, name, other", "String": "many, sort, member, name, other",
+        "String.at": "self, place", "String.place_of": "self, value",
+    },
+    "orders": {
+        "is_plain": "many, sort", "line_of": "many, sort, member", "exchanged": "many, sort, member, lows",
+        "order_of": "many, lows", "lows_to": "many, order", "ordered": "many, sort, member, order",
+        "all_orders": "many, sort, member", "is_root": "many, sort, member", "root_of": "many, sort, member",
+        "way_back": "many, sort, member", "kin": "many, sort, member", "roots": "many, sort",
+        "root_counts": "many, sort", "carried_over": "many, sort, member, other, root",
+    },
+}
+
+
+class InterfaceTest(unittest.TestCase):
+    def test_names_and_parameters(self):
+        for file, names in INTERFACE.items():
+            module = importlib.import_module(f"unithouse.{file}")
+            for name, parameters in names.items():
+                found = module
+                for word in name.split("."):
+                    found = getattr(found, word)
+                self.assertEqual(str(inspect.signature(found)), f"({parameters})", name)
+                self.assertEqual(found.__module__, module.__name__, name)
+
+    def test_each_file_may_be_imported_first(self):
+        for path in sorted(PACKAGE.glob("*.py")):
+            words = "unithouse" if path.stem == "__init__" else f"unithouse.{path.stem}"
+            done = subprocess.run([sys.executable, "-W", "error", "-c", f"import {words}"], cwd=PACKAGE.parent,
+                                  capture_output=True, check=False)
+            self.assertEqual(done.returncode, 0, done.stderr)
