@@ -29,6 +29,8 @@ SMALL = (
     (3, ("family", 3, TWO_KINDS)),
     (3, ("family", 0, NONE)),
     (3, ("family", 2, NONE)),
+    (3, ("heap", 0, NONE)),
+    (3, ("heap", 2, NONE)),
     (4, ("family", 3, ONE)),
     (3, ("heap", 3, ONE)),
     (3, ("heap", 2, TWO_KINDS)),

@@ -142,7 +142,6 @@ def need_sort(many, value):
 
 def is_sort(many, value):
     """Whether a value is a sort."""
-    need_many(many)
     try:
         need_sort(many, value)
     except (BadSort, TooGreat):
