@@ -181,6 +181,74 @@ class SyntaxTest(unittest.TestCase):
             self.fail((path, node.lineno))
 
 
+CHANGING = set("append clear extend insert pop remove reverse setdefault update sort add discard".split())
+
+
+def root_name(node):
+    """Return the name off which a value is read by items, attributes and views of it, None if there is none."""
+    while isinstance(node, (ast.Subscript, ast.Attribute, ast.Call)):
+        if isinstance(node, ast.Call) and not isinstance(node.func, ast.Attribute):
+            return None
+        node = node.func if isinstance(node, ast.Call) else node.value
+    return node.id if isinstance(node, ast.Name) else None
+
+
+def names_walked(node):
+    """Return the set of the names off which is read what a loop or a comprehension walks."""
+    if isinstance(node, ast.Call) and isinstance(node.func, ast.Name):
+        if node.func.id not in ("enumerate", "zip", "reversed", "iter"):
+            return set()
+        return {name for part in node.args for name in names_walked(part)}
+    if isinstance(node, (ast.IfExp, ast.BoolOp)):
+        parts = [node.body, node.orelse] if isinstance(node, ast.IfExp) else node.values
+        return {name for part in parts for name in names_walked(part)}
+    return {root_name(node)} - {None}
+
+
+def names_changed(rows):
+    """Return the set of the names off which something is changed in some rows; a name assigned anew is none."""
+    found = set()
+    for row in rows:
+        for node in ast.walk(row):
+            if isinstance(node, (ast.Subscript, ast.Attribute)) and isinstance(node.ctx, (ast.Store, ast.Del)):
+                found.add(root_name(node))
+            elif isinstance(node, ast.AugAssign):
+                found.add(root_name(node.target))
+            elif isinstance(node, ast.Call) and isinstance(node.func, ast.Attribute) and node.func.attr in CHANGING:
+                found.add(root_name(node.func.value))
+    return found - {None}
+
+
+def with_other_names(function, names):
+    """Return names and the others that may hold the same list in the function, by plain assignments of names."""
+    found = set(names)
+    for _ in ast.walk(function):
+        size = len(found)
+        for node in ast.walk(function):
+            if isinstance(node, ast.Assign) and isinstance(node.value, ast.Name):
+                both = {node.value.id} | {root_name(target) for target in node.targets}
+                if both & found:
+                    found |= both - {None}
+        if len(found) == size:
+            break
+    return found
+
+
+class WalkedTest(unittest.TestCase):
+    def test_what_a_loop_walks_is_not_changed_in_it_under_any_name(self):
+        for path, function in nodes(ast.FunctionDef):
+            for node in ast.walk(function):
+                if isinstance(node, ast.For):
+                    walked, rows = names_walked(node.iter), node.body
+                elif isinstance(node, (ast.ListComp, ast.DictComp)):
+                    walked = {name for part in node.generators for name in names_walked(part.iter)}
+                    rows = [node]
+                else:
+                    continue
+                changed = with_other_names(function, walked) & names_changed(rows)
+                self.assertFalse(changed, (path, function.name, node.lineno))
+
+
 class NamesTest(unittest.TestCase):
     def bound(self):
         """Return the list of (path, name) of all parameters, variables, functions and classes."""

@@ -21,19 +21,20 @@ def need_few(many, sort):
         raise TooGreat(MOST_LISTED)
 
 
+def _least_behind(word, row):
+    """Return the least number that may stand behind a row of numbers in a list, family or heap."""
+    if word == "list" or len(row) == 0:
+        return 0
+    if word == "family":
+        return row[-1] + 1
+    return row[-1]
+
+
 def _number_rows(word, kinds, size):
     """Return all rows of so many numbers below kinds that a list, family or heap lets, ascending."""
     rows = [()]
     for _ in range(size):
-        longer = []
-        for row in rows:
-            least = 0
-            if len(row) > 0 and word == "family":
-                least = row[-1] + 1
-            elif len(row) > 0 and word == "heap":
-                least = row[-1]
-            longer.extend([row + (number,) for number in range(least, kinds)])
-        rows = longer
+        rows = [row + (number,) for row in rows for number in range(_least_behind(word, row), kinds)]
     return rows
 
 
