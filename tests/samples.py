@@ -76,5 +76,22 @@ TEN = balanced(EMPTY, 10)
 GREATEST = ("list", 3, ("list", 10, TEN))
 TOO_MANY = ("either", GREATEST, EMPTY)
 
+# Far too many members to list them, up to 10 ** 30.
+GREAT = (
+    (3, GREATEST),
+    (5, ("list", 12, ONE)),
+    (5, ("list", 12, ("either", ONE, ONE))),
+    (5, ("bag", 12)),
+    (5, ("family", 6, ("either", ONE, ("subset", 2)))),
+    (5, ("heap", 6, ("either", ONE, ("subset", 2)))),
+    (3, ("family", 12, balanced(EMPTY, 29))),
+    (3, ("heap", 12, balanced(EMPTY, 29))),
+    (4, ("rounds", 2)),
+    (5, ("rounds", 1)),
+    (5, ("pair", ("rooted",), ("list", 4, ("either", ("heap", 2, ONE), ("subset", 2))))),
+    (4, ("list", 2, ("trees",))),
+    (3, ("pair", ("list", 10, TEN), ("pair", ("rounds", 2), ("heap", 6, ONE)))),
+)
+
 # Not one of them is an integer, a tuple of such, or a word.
 ODD_VALUES = (None, True, False, "a", "", 1.0, [], [0], {}, {0}, b"a", (None,), ("a",), 2 ** 70)

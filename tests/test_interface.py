@@ -46,6 +46,24 @@ INTERFACE = {
         "way_back": "many, sort, member", "kin": "many, sort, member", "roots": "many, sort",
         "root_counts": "many, sort", "carried_over": "many, sort, member, other, root",
     },
+    "heads": {
+        "heads": "many, sort, one, other", "lengths": "many, sort, one, other", "string_count": "many, sort, one, other",
+        "strings_at": "many, sort, content, one, other",
+    },
+    "counts": {
+        "counts": "many, sort", "count_at": "many, sort, content", "totals": "many, sort",
+        "splits": "many, sort, content, first, second", "growth": "many, sort, content, giver, taker",
+        "most_even": "many, total", "greatest_count": "many, sort, total",
+    },
+    "tallies": {
+        "Tally": "many, pairs", "Tally.at": "self, content", "Tally.entries": "self", "Tally.total": "self",
+        "Tally.chosen": "self, times", "Tally.heaped": "self, times", "Tally.exchanged": "self, first, second",
+        "tally": "many, sort",
+    },
+    "takenout": {
+        "taken_out": "many, sort, marks", "last_marks": "many, sort", "taken_apart": "many, sort, member",
+        "put_back": "many, sort, marks, rest", "counted_out": "many, sort, content",
+    },
 }
 
 

@@ -7,7 +7,7 @@ from unithouse.sorts import how_many
 
 from tests import reference
 from tests.raising import RaisingTest
-from tests.samples import EMPTY, GREATEST, NONE, ODD_VALUES, ONE, SMALL, TEN, TWO_KINDS, balanced
+from tests.samples import EMPTY, GREAT, GREATEST, NONE, ODD_VALUES, ONE, SMALL, TEN, TWO_KINDS
 
 # Few members, but parts with more than can be listed.
 FEW_OF_MANY = (
@@ -16,21 +16,6 @@ FEW_OF_MANY = (
     (3, ("pair", ("list", 2, ("list", 10, TEN)), NONE), []),
     (3, ("list", 2, ("pair", NONE, ("list", 10, TEN))), []),
     (3, ("either", ("pair", NONE, ("list", 10, TEN)), ONE), [(1, 0), (1, 1), (1, 2)]),
-)
-
-GREAT = (
-    (3, GREATEST),
-    (5, ("list", 12, ONE)),
-    (5, ("bag", 12)),
-    (5, ("family", 6, ("either", ONE, ("subset", 2)))),
-    (5, ("heap", 6, ("either", ONE, ("subset", 2)))),
-    (3, ("family", 12, balanced(EMPTY, 29))),
-    (3, ("heap", 12, balanced(EMPTY, 29))),
-    (4, ("rounds", 2)),
-    (5, ("rounds", 1)),
-    (5, ("pair", ("rooted",), ("list", 4, ("either", ("heap", 2, ONE), ("subset", 2))))),
-    (4, ("list", 2, ("trees",))),
-    (3, ("pair", ("list", 10, TEN), ("pair", ("rounds", 2), ("heap", 6, ONE)))),
 )
 
 

@@ -93,6 +93,45 @@ def tree_of_code(many, code):
     return rooted_of_code(many, code + (many - 1,))[1]
 
 
+def code_in(many, sort, member):
+    """Return the code of a checked member of trees or of rooted."""
+    if sort[0] == "trees":
+        return code_of_tree(many, member)
+    return code_of_rooted(many, member)
+
+
+def of_code(many, sort, code):
+    """Return the member of trees or of rooted that has a code."""
+    if sort[0] == "trees":
+        return tree_of_code(many, code)
+    return rooted_of_code(many, code)
+
+
+def code_sort(many, sort):
+    """Return the sort that is like trees or like rooted by the codes.
+
+    In a tree each name has one mark more than letters in the code, so all names stand ahead of it.
+    """
+    if sort[0] == "trees":
+        return ("pair", ("subset", many), ("list", many - 2, ("one",)))
+    return ("list", many - 1, ("one",))
+
+
+def code_member(many, sort, member):
+    """Return the member of the code sort that goes with a member of trees or of rooted."""
+    code = code_in(many, sort, member)
+    if sort[0] == "trees":
+        return (tuple(range(many)), code)
+    return code
+
+
+def of_code_member(many, sort, told):
+    """Return the member of trees or of rooted that goes with a member of the code sort."""
+    if sort[0] == "trees":
+        return tree_of_code(many, told[1])
+    return rooted_of_code(many, told)
+
+
 def _need_code(many, code, length):
     """Raise BadMember of what is no tuple of so many names."""
     if not isinstance(code, tuple) or len(code) != length:

@@ -7,6 +7,7 @@ other modules, which have checked them.
 from math import comb
 
 from unithouse.codes import tree_of_code
+from unithouse.digits import digits_of, with_digits
 from unithouse.errors import BadIndex, TooGreat
 from unithouse.members import need_member, pairs_of_names, row_form
 from unithouse.sorts import count_of, is_below, need_sort
@@ -36,24 +37,6 @@ def _number_rows(word, kinds, size):
     for _ in range(size):
         rows = [row + (number,) for row in rows for number in range(_least_behind(word, row), kinds)]
     return rows
-
-
-def _digits(number, base, size):
-    """Return the row of the last so many digits of a number, the first one first."""
-    digits = []
-    rest = number
-    for _ in range(size):
-        rest, digit = divmod(rest, base)
-        digits.append(digit)
-    return tuple(digits[::-1])
-
-
-def _from_digits(digits, base):
-    """Return the number that has these digits."""
-    number = 0
-    for digit in digits:
-        number = number * base + digit
-    return number
 
 
 def _choice_at(kinds, size, index):
@@ -147,7 +130,7 @@ def _row_at(many, sort, index):
     word, size, part = row_form(sort)
     kinds = count_of(many, part)
     if word == "list":
-        numbers = _digits(index, kinds, size)
+        numbers = digits_of(index, kinds, size)
     elif word == "family":
         numbers = _choice_at(kinds, size, index)
     else:
@@ -171,7 +154,7 @@ def nth(many, sort, index):
         first, second = divmod(index, count_of(many, sort[2]))
         return (nth(many, sort[1], first), nth(many, sort[2], second))
     if word == "rounds":
-        bits = _digits(index, 2, _count_of_bits(many, sort[1]))
+        bits = digits_of(index, 2, _count_of_bits(many, sort[1]))
         return _rounds_of_bits(many, sort[1], bits)
     if word == "trees":
         return all_trees(many)[index]
@@ -187,7 +170,7 @@ def _number_of_row(many, sort, member):
     kinds = count_of(many, part)
     numbers = [number_of(many, part, thing) for thing in member]
     if word == "list":
-        return _from_digits(numbers, kinds)
+        return with_digits(numbers, kinds)
     if word == "family":
         return _number_of_choice(kinds, numbers)
     raised = [number + at for at, number in enumerate(numbers)]
@@ -206,7 +189,7 @@ def number_of(many, sort, member):
         first = number_of(many, sort[1], member[0])
         return first * count_of(many, sort[2]) + number_of(many, sort[2], member[1])
     if word == "rounds":
-        return _from_digits(_bits_of_rounds(many, member), 2)
+        return with_digits(_bits_of_rounds(many, member), 2)
     if word == "trees":
         return all_trees(many).index(member)
     if word == "rooted":

@@ -4,7 +4,7 @@ A transfer or an exchange of neighbours is told by its lesser name LOW throughou
 is LOW + 1.
 """
 
-from unithouse.codes import code_of_rooted, code_of_tree
+from unithouse.codes import code_in
 from unithouse.errors import BadMember, BadSort, BadWay, Unlike
 from unithouse.listing import listed, need_few
 from unithouse.members import content_in, holds_member, need_member, things_in
@@ -50,10 +50,8 @@ def line_in(many, sort, member):
         return member
     if word == "bag":
         return member[::-1]
-    if word == "trees":
-        return code_of_tree(many, member)
-    if word == "rooted":
-        return code_of_rooted(many, member)
+    if word in ("trees", "rooted"):
+        return code_in(many, sort, member)
     return tuple([name for part, thing in things_in(sort, member) for name in line_in(many, part, thing)])
 
 

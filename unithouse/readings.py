@@ -4,7 +4,7 @@
 modules. LOW and HIGH are the lesser and the greater one of the two names throughout.
 """
 
-from unithouse.codes import code_of_rooted, code_of_tree, rooted_of_code, tree_of_code
+from unithouse.codes import code_in, of_code
 from unithouse.errors import NoFree
 from unithouse.members import need_member, pairs_of_names, row_form, things_in
 from unithouse.sorts import need_pair
@@ -17,20 +17,6 @@ def _bracket_of(name, low, high):
     if name == high:
         return ")"
     return ""
-
-
-def _code_in(many, sort, member):
-    """Return the code of a member of trees or of rooted."""
-    if sort[0] == "trees":
-        return code_of_tree(many, member)
-    return code_of_rooted(many, member)
-
-
-def _of_code(many, sort, code):
-    """Return the member of trees or of rooted that has a code."""
-    if sort[0] == "trees":
-        return tree_of_code(many, code)
-    return rooted_of_code(many, code)
 
 
 def _winner(many, member, one, other, meeting):
@@ -147,7 +133,7 @@ def brackets(many, sort, member, low, high):
         places = _meeting_places(many, sort, member, low, high)
         return "".join([bracket for bracket, _, _ in places])
     if word in ("trees", "rooted"):
-        code = _code_in(many, sort, member)
+        code = code_in(many, sort, member)
         return "".join([_bracket_of(letter, low, high) for letter in code])
     if word in ("either", "pair", "list"):
         things = things_in(sort, member)
@@ -164,9 +150,9 @@ def flipped(many, sort, member, low, high, place):
     if word == "rounds":
         return _flipped_rounds(many, sort, member, low, high, place)
     if word in ("trees", "rooted"):
-        code = _code_in(many, sort, member)
+        code = code_in(many, sort, member)
         at = [index for index, letter in enumerate(code) if letter in (low, high)][place]
-        return _of_code(many, sort, code[:at] + (low + high - code[at],) + code[at + 1:])
+        return of_code(many, sort, code[:at] + (low + high - code[at],) + code[at + 1:])
     if word in ("either", "pair", "list"):
         return _flipped_inside(many, sort, member, low, high, place)
     return _flipped_row(many, sort, member, low, high, place)
