@@ -64,6 +64,25 @@ INTERFACE = {
         "taken_out": "many, sort, marks", "last_marks": "many, sort", "taken_apart": "many, sort, member",
         "put_back": "many, sort, marks, rest", "counted_out": "many, sort, content",
     },
+    "evenness": {
+        "tops": "many, row", "is_evener": "many, row, other", "sizes_of": "many, row", "showing_sort": "many, row",
+        "evenness_paper": "many, row, other", "is_evenness_paper": "many, row, other, paper",
+    },
+    "ways": {
+        "rows_on": "many, start, way", "units": "many, start, goal", "way_to": "many, start, goal",
+        "is_way": "many, start, goal, way", "led": "many, sort, member, way",
+        "origin": "many, sort, start, way, member", "fresh": "many, sort, start, way",
+        "arisen": "many, sort, start, way", "way_over": "many, sort, start, way, other, member",
+    },
+    "alike": {
+        "are_alike": "many, sort, other", "first_apart": "many, sort, other",
+        "matched": "many, sort, other, one, two, member", "matching": "many, sort, other, one, two",
+        "check_matching": "many, sort, other, one, two, pairs",
+    },
+    "rules": {
+        "fits": "many, word, left, right", "other_side": "many, word, sort, *, back=False",
+        "member_over": "many, word, left, right, member, *, back=False",
+    },
 }
 
 

@@ -279,8 +279,9 @@ class NamesTest(unittest.TestCase):
             self.assertFalse(variables & taken, path)
 
     def test_builtins_are_those_that_are_let(self):
+        bound = self.bound()
         for path, tree in trees():
-            own = {name for other, name in self.bound() if other == path} | set(top_names(tree))
+            own = {name for other, name in bound if other == path} | set(top_names(tree))
             for node in ast.walk(tree):
                 if isinstance(node, ast.Name) and node.id not in own:
                     self.assertIn(node.id, BUILTINS, (path, node.lineno))
