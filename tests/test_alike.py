@@ -246,6 +246,14 @@ class CheckTest(RaisingTest):
         crossed = [good[0], (good[1][0], good[2][1]), (good[2][0], good[1][1]), good[3]]
         self.refuse("transfer", crossed)
 
+    def test_a_transfer_of_one_thing_of_a_pair_alone(self):
+        sort = ("either", ("subset", 2), ("bag", 2))
+        found = matching(2, sort, self.OTHER, 0, 1)
+        self.assertEqual(found[0], ((0, (0, 1)), (1, (0, 1))))
+        self.assertEqual(found[2], ((1, (0, 1)), (0, (0, 1))))
+        crossed = [(found[0][0], found[2][1]), found[1], (found[2][0], found[0][1]), found[3]]
+        self.assert_error(BadPaper("transfer"), check_matching, 2, sort, self.OTHER, 0, 1, crossed)
+
     def test_transfers_that_both_have_but_to_others(self):
         sort = ("list", 2, ("either", ONE, EMPTY))
         found = matching(2, sort, sort, 0, 1)
