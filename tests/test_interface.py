@@ -83,6 +83,44 @@ INTERFACE = {
         "fits": "many, word, left, right", "other_side": "many, word, sort, *, back=False",
         "member_over": "many, word, left, right, member, *, back=False",
     },
+    "derivations": {
+        "Derivation": "many, sort", "Derivation.step": "self, path, word, put=None, *, back=False",
+        "Derivation.undo": "self", "Derivation.steps": "self", "Derivation.carried": "self, member",
+        "Derivation.carried_back": "self, member", "Derivation.turned": "self", "Derivation.joined": "self, other",
+        "Derivation.within": "self, sort, path", "Derivation.is_smooth": "self", "Derivation.__len__": "self",
+        "Derivation.__iter__": "self", "Derivation.__eq__": "self, other",
+        "derivation": "many, sort, steps", "check_derivation": "many, sort, other, steps",
+    },
+    "worths": {
+        "need_worths": "many, value", "product_at": "many, content, worths",
+        "even_sum": "many, content, worths, *, unlike=False", "sums_by_total": "many, sort, worths",
+        "sum_at": "many, sort, worths", "content_terms": "many, sort, worths",
+        "string_terms": "many, sort, first, second, worths", "head_sum": "many, sort, first, second, worths",
+        "flat_sort": "many, total", "transfer_terms": "many, content, giver, taker, worths",
+        "parting_worths": "many, content, other", "is_parting": "many, content, other, worths",
+        "test_worths": "many, total", "telling_worths": "many, sort, other",
+    },
+    "tables": {
+        "need_table": "table, *, sign", "is_table": "value, *, sign", "table_content": "table, *, sign",
+        "table_sizes": "table, *, sign", "table_sort": "table, *, sign", "table_member": "table, *, sign",
+        "member_table": "many, sort, member", "all_tables": "content, sizes, *, sign",
+        "name_reading": "table, name, other, *, sign", "column_reading": "table, column, other, *, sign",
+        "transfer_names": "table, giver, taker, *, sign", "transfer_columns": "table, giver, taker, *, sign",
+        "exchange_names": "table, name, other, *, sign", "exchange_columns": "table, column, other, *, sign",
+    },
+    "corners": {
+        "is_corner": "table, *, sign", "names_root": "table, *, sign", "columns_root": "table, *, sign",
+        "corner": "table, *, sign", "joined_roots": "names_side, columns_side, *, sign",
+        "rectangle": "table, low, column, *, sign", "rectangle_place": "table, low, column, *, sign",
+    },
+}
+
+# The methods of each class of the interface, defined in the class itself.
+METHODS = {
+    ("strings", "String"): "at place_of __len__ __iter__ __contains__ __eq__",
+    ("tallies", "Tally"): "at entries total chosen heaped exchanged __add__ __mul__ __pow__ __eq__ __len__",
+    ("derivations", "Derivation"): """step undo steps carried carried_back turned joined within is_smooth __len__
+        __iter__ __eq__""",
 }
 
 
@@ -96,6 +134,12 @@ class InterfaceTest(unittest.TestCase):
                     found = getattr(found, word)
                 self.assertEqual(str(inspect.signature(found)), f"({parameters})", name)
                 self.assertEqual(found.__module__, module.__name__, name)
+
+    def test_methods_are_defined_in_the_class_itself(self):
+        for (file, name), methods in METHODS.items():
+            found = vars(getattr(importlib.import_module(f"unithouse.{file}"), name))
+            for method in methods.split():
+                self.assertIn(method, found, name)
 
     def test_each_file_may_be_imported_first(self):
         for path in sorted(PACKAGE.glob("*.py")):

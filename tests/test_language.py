@@ -15,7 +15,7 @@ BUILTINS = set("""len range enumerate zip min max sum abs sorted reversed int st
     repr any all divmod iter property ValueError TypeError KeyError IndexError LookupError NotImplemented""".split())
 
 METHODS = set("""append clear copy count endswith extend find get index insert isalnum isalpha isdigit items join keys
-    lower pop remove replace reverse setdefault split startswith strip update upper values""".split())
+    lower pop remove replace reverse setdefault split startswith strip update upper values isupper isascii""".split())
 
 DUNDERS = set("__init__ __eq__ __repr__ __str__ __len__ __iter__ __contains__ __add__ __mul__ __pow__".split())
 
@@ -255,6 +255,7 @@ class NamesTest(unittest.TestCase):
         found = [(path, name) for path, node in functions() for name in parameters(node)]
         found += [(path, node.name) for path, node in nodes((ast.FunctionDef, ast.ClassDef))]
         found += [(path, node.id) for path, node in nodes(ast.Name) if isinstance(node.ctx, ast.Store)]
+        found += [(path, node.name) for path, node in nodes(ast.ExceptHandler) if node.name is not None]
         return found
 
     def test_plain_names(self):
