@@ -113,6 +113,27 @@ INTERFACE = {
         "corner": "table, *, sign", "joined_roots": "names_side, columns_side, *, sign",
         "rectangle": "table, low, column, *, sign", "rectangle_place": "table, low, column, *, sign",
     },
+    "turned": {
+        "quarter_turn": "table", "quarter_back": "table", "transposed": "table", "turned_sort": "many, sort",
+        "turned_member": "many, sort, member", "layers": "many, sort, member",
+    },
+    "house": {
+        "House": "many, rooms, *, keeps=()", "House.state": "self", "House.contents": "self", "House.log": "self",
+        "House.offsets": "self", "House.copy": "self", "House.transfer": "self, giver, taker",
+        "House.exchange": "self, one, other", "House.stuck": "self, giver, taker",
+        "House.how_far": "self, giver, taker", "House.follow": "self, way", "House.trial": "self, way",
+        "House.undo": "self", "House.chain": "self, one, other", "House.reached": "self, names, *, most=200",
+        "House.__len__": "self", "House.__iter__": "self", "House.__eq__": "self, other",
+    },
+    "texts": {
+        "sort_text": "many, sort", "read_sort": "many, text", "member_text": "many, sort, member",
+        "read_member": "many, sort, text", "content_text": "many, content", "read_content": "many, text",
+        "way_text": "many, way", "read_way": "many, text", "derivation_text": "many, steps",
+        "read_derivation": "many, text",
+    },
+    "sheet": {
+        "Sheet": "text", "Sheet.all_true": "self", "Sheet.named": "self, name", "whole_sheet": "many, sort",
+    },
 }
 
 # The methods of each class of the interface, defined in the class itself.
@@ -121,6 +142,17 @@ METHODS = {
     ("tallies", "Tally"): "at entries total chosen heaped exchanged __add__ __mul__ __pow__ __eq__ __len__",
     ("derivations", "Derivation"): """step undo steps carried carried_back turned joined within is_smooth __len__
         __iter__ __eq__""",
+    ("house", "House"): """state contents log offsets copy transfer exchange stuck how_far follow trial undo chain
+        reached __len__ __iter__ __eq__""",
+    ("sheet", "Sheet"): "all_true named __len__ __iter__ __eq__ __str__",
+}
+
+# The attributes of each class that is no error, set when an object is created.
+ATTRIBUTES = {
+    ("tallies", "Tally"): ((2, []), "many pairs"),
+    ("derivations", "Derivation"): ((2, ("one",)), "many start end"),
+    ("house", "House"): ((2, ((("one",), 0),)), "many sorts sums keeps"),
+    ("sheet", "Sheet"): (("names 2",), "many rows"),
 }
 
 
@@ -140,6 +172,12 @@ class InterfaceTest(unittest.TestCase):
             found = vars(getattr(importlib.import_module(f"unithouse.{file}"), name))
             for method in methods.split():
                 self.assertIn(method, found, name)
+
+    def test_attributes_are_set_on_each_object(self):
+        for (file, name), (passed, words) in ATTRIBUTES.items():
+            made = getattr(importlib.import_module(f"unithouse.{file}"), name)(*passed)
+            for word in words.split():
+                self.assertIn(word, vars(made), name)
 
     def test_each_file_may_be_imported_first(self):
         for path in sorted(PACKAGE.glob("*.py")):
