@@ -378,6 +378,8 @@ class OthersTest(RaisingTest):
             self.assertFalse(made == other)
             self.assertTrue(made != other)
             self.assertFalse(other == made)
+        self.assertFalse(Derivation(3, SWAP) == Derivation(3, ONE))
+        self.assertFalse(Derivation(3, SWAP) == Derivation(4, SWAP))
         # The same end by other steps is another derivation.
         self.assertEqual(made.end, derivation(3, SWAP, [((), "either_swap", True, SWAPPED)]).end)
 

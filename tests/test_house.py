@@ -138,6 +138,8 @@ class MakeTest(RaisingTest):
             self.assertFalse(house == other)
             self.assertTrue(house != other)
         self.assertFalse(House(2, EXAMPLE, keeps=(keep,)) == House(2, EXAMPLE, keeps=(keep, keep)))
+        # A member of one sort may be one of another sort, too.
+        self.assertFalse(House(2, ((("bag", 1), (0,)),)) == House(2, ((("subset", 1), (0,)),)))
         # The logs do not matter.
         other = House(2, EXAMPLE)
         other.exchange(0, 1)

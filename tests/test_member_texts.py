@@ -36,7 +36,7 @@ MORE = (
     (2, ("list", 3, ("either", ("bag", 2), EMPTY))),
 )
 OTHERS = ["", "0", "1", "2", "00", "a", "b", "c", "d", "e", "f", "A", "ab", "ba", "aa", "bc", "ac", "abc", ".", "a.", ".a",
-          "ab.", "b.b", ".aa", "...", "a b", "x", "a\n", "-", "bca", "..", "aab", "01"]
+          "ab.", "b.b", ".aa", "...", "a b", "aaaaaa.", "x", "a\n", "-", "bca", "..", "aab", "01"]
 
 
 class WriteTest(RaisingTest):

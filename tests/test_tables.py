@@ -104,7 +104,8 @@ class MembersTest(RaisingTest):
         self.assert_error(TooGreat(10), member_table, 3, deep(11), None)
         one, bag = ("subset", 1), ("bag", 1)
         six = ("pair", one, ("pair", one, ("pair", one, ("pair", one, ("pair", one, one)))))
-        for sort in (ONE, NONE, one, bag, ("pair", one, bag), ("pair", bag, one), ("pair", ("pair", one, one), one),
+        for sort in (ONE, NONE, one, bag, ("pair", ONE, ONE), ("pair", ("list", 1, one), ("list", 1, one)),
+                     ("pair", ("rounds", 1), ("rounds", 1)), ("pair", one, bag), ("pair", bag, one), ("pair", ("pair", one, one), one),
                      ("pair", one, ONE), ("pair", ONE, one), ("pair", one, ("pair", one, bag)), ("list", 2, one), six,
                      ("pair", one, ("either", one, one)), ("either", one, one), ("pair", one, ("pair", bag, one))):
             self.assert_error(BadSort(()), member_table, 3, sort, None)

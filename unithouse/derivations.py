@@ -31,7 +31,7 @@ def _side_put(many, part, word, put, back):
     side = put
     if side is None:
         side = other_side(many, word, part, back=back)
-    if side is None or not is_sort(many, side):
+    if not is_sort(many, side):
         raise BadRule(word)
     left, right = part, side
     if back:

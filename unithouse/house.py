@@ -104,7 +104,7 @@ class House:
         word, one, other = deed
         if word == "transfer":
             return [moved(self.many, sort, member, one, other) for sort, member in zip(self.sorts, state)]
-        low, high = need_pair(self.many, one, other)
+        low, high = min(one, other), max(one, other)
         return [exchanged_pair(self.many, sort, member, low, high) for sort, member in zip(self.sorts, state)]
 
     def _state_behind(self, state, deed):

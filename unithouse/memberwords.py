@@ -56,8 +56,7 @@ def _take_letters(words, many, sort, least, most):
     if sort[1] == 0:
         return ()
     member = names_told(many, words.ahead())
-    right = member is not None and holds_member(many, sort, member)
-    words.take_if(right and least <= number_of(many, sort, member) <= most)
+    words.take_if(holds_member(many, sort, member) and least <= number_of(many, sort, member) <= most)
     return member
 
 

@@ -82,9 +82,7 @@ def _is_step(many, value):
     if not isinstance(value, tuple) or len(value) != 4:
         return False
     path, word, back, put = value
-    if not _is_path(path) or not isinstance(word, str) or word not in RULES:
-        return False
-    return isinstance(back, bool) and is_sort(many, put)
+    return _is_path(path) and word in RULES and isinstance(back, bool) and is_sort(many, put)
 
 
 def derivation_text(many, steps):

@@ -66,8 +66,6 @@ def _member_turned(many, sort, member):
         return _others(many, (member,))
     if word == "subset":
         return _others(many, member)
-    if word == "bag":
-        return tuple(sorted([_others(many, (name,)) for name in member]))
     turned = [_member_turned(many, part, thing) for part, thing in things_in(sort, member)]
     if word == "either":
         return (1 - member[0], turned[0])
@@ -86,8 +84,6 @@ def _layers_in(sort, member):
     """Return the layers of a member."""
     if sort[0] in ("one", "subset"):
         return 1
-    if sort[0] == "bag":
-        return sort[1]
     return sum([_layers_in(part, thing) for part, thing in things_in(sort, member)])
 
 
