@@ -32,7 +32,8 @@ def steps_there_are(many, sort):
     for path, part in parts(many, sort):
         for word in RULES:
             for back in (False, True):
-                side = other_side(many, word, part, back=back)
+                # Below a list of 0 things a part by itself may be no sort.
+                side = other_side(many, word, part, back=back) if is_sort(many, part) else None
                 if side is None:
                     continue
                 try:
